@@ -196,3 +196,16 @@ func TestCopyKeepsWhatIsReached(t *testing.T) { // P2101, T3
 		}
 	}
 }
+
+func TestFieldsFromOutsideEnd(t *testing.T) { // P8, P1
+	wild := []int{math.MinInt, -1, 0, 2, 5, 7, 20, math.MaxInt}
+	for _, base := range wild {
+		for _, top := range wild {
+			s := sample(t)
+			s.Base, s.Top = base, top
+			cheney.Copy(s, []int{-1, 2, base, top}, 20)
+			cheney.Copy(s, nil, 20)
+			cheney.Live(s, []int{-1, 5})
+		}
+	}
+}
