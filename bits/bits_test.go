@@ -84,7 +84,7 @@ func TestFieldAndWith(t *testing.T) { // P101
 		field, with uint64
 	}{
 		{0, 8, 0xef, 0x0123456789abcd5a}, {4, 4, 0xe, 0x0123456789abcdaf}, {56, 8, 0x01, 0x5a23456789abcdef},
-		{0, 64, w, 0x5a}, {63, 1, 0, w}, {-1, 4, 0, w}, {64, 1, 0, w}, {63, 2, 0, w}, {0, 0, 0, w}, {0, 65, 0, w},
+		{0, 64, w, 0x5a}, {63, 1, 0, w}, {62, 1, 0, w}, {1, 1, 1, w &^ 2}, {0, 1, 1, w &^ 1}, {-1, 4, 0, w}, {64, 1, 0, w}, {63, 2, 0, w}, {0, 0, 0, w}, {0, 65, 0, w},
 		{1, math.MaxInt, 0, w}, {math.MaxInt, 1, 0, w}, {math.MinInt, 64, 0, w},
 	} {
 		if f := bits.Field(w, c.at, c.n); f != c.field {
@@ -93,6 +93,15 @@ func TestFieldAndWith(t *testing.T) { // P101
 		if x := bits.With(w, c.at, c.n, 0x5a); x != c.with {
 			t.Errorf("With(%d, %d): %x", c.at, c.n, x)
 		}
+	}
+}
+
+func TestHighestBit(t *testing.T) { // P101
+	if f := bits.Field(1<<63, 63, 1); f != 1 {
+		t.Errorf("%x", f)
+	}
+	if w := bits.With(0, 63, 1, 3); w != 1<<63 {
+		t.Errorf("%x", w)
 	}
 }
 

@@ -116,8 +116,9 @@ func TestPins(t *testing.T) { // P1101, P5
 	if c.Pin(k(9)) || c.Unpin(k(9)) || c.Unpin(k(0)) {
 		t.Error("what is not here, or not pinned")
 	}
-	c.Pin(k(0))
-	c.Pin(k(0))
+	if !c.Pin(k(0)) || !c.Pin(k(0)) {
+		t.Error("not pinned")
+	}
 	if went := put(t, c, 2); went != 1 {
 		t.Errorf("%d went", went)
 	}

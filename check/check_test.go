@@ -114,13 +114,17 @@ func TestImagesOfFewWordsAndMany(t *testing.T) { // P2601
 	many[0], many[1] = 0x4d414f4c, (api.MaxWords+1)<<16
 	most := slices.Clone(many[:api.MaxWords])
 	most[1] = api.MaxWords << 16
+	names := []uint64{0x4d414f4c, 64 | 322<<16}
+	for i := range uint64(64) {
+		names = append(names, 'a'+i, 0, 0, 0, 0)
+	}
 	roots := append([]uint64{0x4d414f4c, 65 | 327<<16}, make([]uint64, 325)...)
 	for i, c := range []struct {
 		l    []uint64
 		want []found
 	}{
 		{nil, []found{f(0, "magic"), f(1, "size")}}, {[]uint64{5}, []found{f(0, "magic"), f(1, "size")}}, {[]uint64{0x4d414f4c}, []found{f(1, "size")}},
-		{[]uint64{0x4d414f4c, 2 << 16}, nil}, {many, []found{f(1, "size")}}, {most, nil}, {roots, []found{f(1, "size")}},
+		{[]uint64{0x4d414f4c, 2 << 16}, nil}, {many, []found{f(1, "size")}}, {most, nil}, {names, nil}, {roots, []found{f(1, "size")}},
 	} {
 		if got := check.Image(c.l); !slices.Equal(got, c.want) {
 			t.Errorf("%d: %v", i, got)

@@ -206,6 +206,18 @@ func TestArmAgainAndBelowOne(t *testing.T) { // P301
 
 func TestTwinIsApart(t *testing.T) { // P301, P7
 	d := newDisk(t, 2)
+	for range 3 { // so that there may be spare room for more
+		write(t, d, 0, 1)
+	}
+	a := d.Twin()
+	write(t, d, 1, 2)
+	write(t, a, 1, 5)
+	a.Sync()
+	d.Sync()
+	if !bytes.Equal(firsts(d), []byte{1, 2}) || !bytes.Equal(firsts(a), []byte{1, 5}) {
+		t.Error("pending writes are shared")
+	}
+	d = newDisk(t, 2)
 	write(t, d, 0, 1)
 	d.Arm(2, true, true)
 	w := d.Twin()

@@ -163,6 +163,9 @@ func TestTry(t *testing.T) { // P2802, T2
 	if l, err := farm.Try(shape, nil, 1); err != api.OK || !slices.Equal(l, []string{none, none, none}) {
 		t.Errorf("of no ops: %q, %v", l, err)
 	}
+	if l, err := farm.Try(shape, day(), 1); err != api.OK || !slices.Equal(l, []string{none, none, first}) {
+		t.Errorf("the first Commit is cut at once: %q, %v", l, err)
+	}
 	states := []string{none, first, second}
 	at := 0 // the Commit that is cut
 	for after := 1; after < 30; after++ {

@@ -99,14 +99,14 @@ func TestRenumber(t *testing.T) { // P2001, P2
 	for _, node := range []int{1, 2, 3, 4, 5, 2, math.MaxInt} {
 		open(t, l, node)
 	}
-	to := []int{4, 1, 0, -2}
-	if n := l.Renumber(to); n != 4 {
+	to := []int{4, 1, 0, -2, 9}
+	if n := l.Renumber(to); n != 3 {
 		t.Errorf("%d closed", n)
 	}
-	if !slices.Equal(l.Live(), []int{1, 2, 6}) || !slices.Equal(l.Nodes(), []int{4, 1, 1}) || !slices.Equal(to, []int{4, 1, 0, -2}) {
+	if !slices.Equal(l.Live(), []int{1, 2, 5, 6}) || !slices.Equal(l.Nodes(), []int{4, 1, 9, 1}) || !slices.Equal(to, []int{4, 1, 0, -2, 9}) {
 		t.Errorf("%v, %v", l.Live(), l.Nodes())
 	}
-	if n := l.Renumber(nil); n != 3 || len(l.Live()) != 0 || len(l.Nodes()) != 0 {
+	if n := l.Renumber(nil); n != 4 || len(l.Live()) != 0 || len(l.Nodes()) != 0 {
 		t.Errorf("%d closed", n)
 	}
 	if h := open(t, l, 1); h != 8 {

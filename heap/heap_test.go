@@ -246,6 +246,8 @@ func TestNamesThatAreTooMany(t *testing.T) { // P2401, P6, P5
 	if l := h.Names(); !slices.Equal(l, []string{"b"}) || h.Used() != 12 {
 		t.Errorf("%v, %d", l, h.Used())
 	}
+	h = newHeap(t, 16)
+	ok(t, h.Bind("just", alloc(t, h, 5, 40)))
 	h = newHeap(t, api.MaxWords)
 	a = alloc(t, h, 0, 0)
 	for i := range api.MaxRoots {

@@ -172,6 +172,9 @@ func TestPowerOff(t *testing.T) { // P2501, P4, P6
 		if err := calls(h)[i](); err != api.ErrDown {
 			t.Errorf("call %d: %v", i, err)
 		}
+		if whole, _ := h.Step(9); whole {
+			t.Error("beside an error Step tells true")
+		}
 		d.On()
 		for k, call := range calls(h) { // one was told ErrDown ahead
 			if err := call(); err != api.ErrDown {
@@ -528,9 +531,25 @@ func works(t *testing.T, d *disk.Disk, h *pheap.Heap) {
 	x := pair{h, m}
 	rng := rand.New(rand.NewSource(1))
 	for range 3 {
+		was := m.Graph()
 		for range 30 {
 			if !x.do(rng) || !x.same(t) {
 				t.Fatal("not alike")
+			}
+		}
+		if canon.Same(was, m.Graph()) { // else the Commit ahead would do for this one
+			if names := m.Names(); len(names) > 0 {
+				ok(t, h.Unbind(names[0]), m.Unbind(names[0]))
+			} else {
+				for _, open := range h.Live() { // so that there is room
+					ok(t, h.Close(open), m.Close(open))
+				}
+				_, cerr := h.Collect()
+				ok(t, cerr)
+				m.Collect()
+				a, err := h.Alloc(0, 0)
+				b, merr := m.Alloc(0, 0)
+				ok(t, err, merr, h.Bind("new", a), m.Bind("new", b))
 			}
 		}
 		ok(t, h.Commit(), m.Commit())

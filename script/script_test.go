@@ -98,13 +98,16 @@ func TestRunAndModel(t *testing.T) { // P2701, T1
 }
 
 func TestStepAndCollect(t *testing.T) { // P2701
-	l := []op{{Kind: script.Alloc, I: 20}, {Kind: script.Close, X: 1}, {Kind: script.Step, I: 1000}, {Kind: script.Alloc, I: 20}, {Kind: script.Close, X: 2}, {Kind: script.Collect}}
+	// What is left at the end has all of the words that there are, so what was ahead of it must have gone.
+	l := []op{{Kind: script.Alloc, I: 20}, {Kind: script.Close, X: 1}, {Kind: script.Step, I: 1000}, {Kind: script.Alloc, I: 20}, {Kind: script.Close, X: 2}, {Kind: script.Collect}, {Kind: script.Alloc, I: 79 * 8}}
 	got, err := script.Day(shape, l...)
 	if err != api.OK {
 		t.Fatal(err)
 	}
-	holds(t, got, []answer{{N: 1}, {}, {N: 1}, {N: 2}, {}, {}})
+	holds(t, got, []answer{{N: 1}, {}, {N: 1}, {N: 2}, {}, {}, {N: 3}})
 	m, _ := heap.New(80)
+	holds(t, script.Model(m, append(l[:2:2], l[5:]...)...), []answer{{N: 1}, {}, {}, {N: 2}})
+	m, _ = heap.New(80)
 	holds(t, script.Model(m, l[:3]...), []answer{{N: 1}, {}, {}})
 	if m.Used() != 4 {
 		t.Error("Step does something to a heap in memory")
