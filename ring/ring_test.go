@@ -191,6 +191,9 @@ func TestAppendRefuses(t *testing.T) { // P901, P6, P5
 	if no, err := r.Append(make([]byte, api.MaxData)); no != 1 || err != api.OK {
 		t.Errorf("%d, %v", no, err)
 	}
+	if s := told(reopen(t, d, 0, 100)); len(s.l) != 1 || len(s.l[0]) != api.MaxData {
+		t.Errorf("%d records", len(s.l))
+	}
 	small := format(t, newDisk(t, 8, 64), 0, 8)
 	if _, err := small.Append(make([]byte, small.Room()+1)); err != api.ErrFull {
 		t.Error(err)
